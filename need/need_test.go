@@ -7,66 +7,23 @@ import (
 	"unicode/utf8"
 
 	"quillpen/api"
+	"quillpen/samples"
 	"quillpen/whole"
 )
 
 var (
-	ends  = []int{api.LF, api.CRLF, api.Either}
 	bools = []bool{false, true}
 	wide  = api.Limits{Field: 1 << 31, Fields: 1 << 31, Records: 1 << 31}
 )
-
-// someDialects has Delims and Quotes that are usual ones, changed places, letters, blanks, and the edges of what may be.
-func someDialects() []api.Dialect {
-	var all []api.Dialect
-	for _, pair := range []string{",\"", "\",", ";'", "\t\"", " a", "a ", "\x00\x7f", "\x7f\x00", "\x0b\x0c", "\x09\x0e"} {
-		for _, end := range ends {
-			all = append(all, api.Dialect{Delim: pair[0], Quote: pair[1], End: end})
-		}
-	}
-	return all
-}
-
-// eachRight hands on all dialects that are right.
-func eachRight(see func(d api.Dialect)) {
-	for delim := range 128 {
-		for quote := range 128 {
-			if delim == quote || delim == 10 || delim == 13 || quote == 10 || quote == 13 {
-				continue
-			}
-			for _, end := range ends {
-				see(api.Dialect{Delim: byte(delim), Quote: byte(quote), End: end})
-			}
-		}
-	}
-}
 
 // bytesOf is bytes that matter in a dialect, those of the mark, and some that have no meaning.
 func bytesOf(d api.Dialect) []byte {
 	return []byte{d.Delim, d.Quote, '\r', '\n', 0xef, 0xbb, 0xbf, 'x'}
 }
 
-// eachList hands on all lists of these things, up to a length; the same list each time.
-func eachList[T any](things []T, long int, see func(list []T)) {
-	var list []T
-	var more func()
-	more = func() {
-		see(list)
-		if len(list) == long {
-			return
-		}
-		for _, thing := range things {
-			list = append(list, thing)
-			more()
-			list = list[:len(list)-1]
-		}
-	}
-	more()
-}
-
 // eachField hands on all fields of the bytes that matter in a dialect, up to a length.
 func eachField(d api.Dialect, long int, see func(f string)) {
-	eachList(bytesOf(d), long, func(field []byte) { see(string(field)) })
+	samples.EachText(bytesOf(d), long, see)
 }
 
 // why says the chapter's words byte by byte: all reasons are gathered, and the least is told.
@@ -182,7 +139,7 @@ func TestWhySpelt(t *testing.T) {
 
 // P8.1: the Delim and the Quote are the dialect's; carriage return and line feed count in each, however its lines end.
 func TestWhyOfDialects(t *testing.T) {
-	for _, end := range ends {
+	for _, end := range samples.Ends() {
 		d := api.Dialect{Delim: '"', Quote: ',', End: end}
 		for f, want := range map[string]int{"\"": 1, ",": 2, "\r": 3, "\n": 3, "\r\n": 3, ";": 0, "'": 0} {
 			if n := Why(d, f, false, false); n != want {
@@ -194,14 +151,14 @@ func TestWhyOfDialects(t *testing.T) {
 
 // P8.1: all short fields of the bytes that matter, UTF-8 or not.
 func TestWhyOfShortFields(t *testing.T) {
-	for _, d := range someDialects() {
+	for _, d := range samples.Dialects() {
 		eachField(d, 5, func(f string) { check(t, d, f) })
 	}
 }
 
 // P8.1: each byte in each dialect that is right, by itself and behind another one.
 func TestWhyOfEachByte(t *testing.T) {
-	eachRight(func(d api.Dialect) {
+	samples.EachDialect(func(d api.Dialect) {
 		for b := range 256 {
 			f := string([]byte{'x', byte(b)})
 			for _, s := range []string{f, f[1:]} {
@@ -215,7 +172,7 @@ func TestWhyOfEachByte(t *testing.T) {
 
 // P8.1: a byte that matters at each place of fields of many lengths, with the mark and without.
 func TestWhyOfLongFields(t *testing.T) {
-	for _, d := range someDialects() {
+	for _, d := range samples.Dialects() {
 		for long := range 70 {
 			for _, filling := range []string{"x", "\xff"} {
 				plain := strings.Repeat(filling, long)
@@ -238,10 +195,10 @@ func TestWhyOfLongFields(t *testing.T) {
 
 // P8.1: all short records: only one that has no other is alone, only the first record's first field is first.
 func TestFields(t *testing.T) {
-	for _, d := range someDialects() {
+	for _, d := range samples.Dialects() {
 		delim, quote := string([]byte{d.Delim}), string([]byte{d.Quote})
 		fields := []string{"", "x", "\ufeff", "\ufeffx", "x\ufeff", "\xef\xbb", "\xff", delim, "x" + quote, "\r", "x\n"}
-		eachList(fields, 3, func(r []string) { checkFields(t, d, r) })
+		samples.EachList(fields, 3, func(r []string) { checkFields(t, d, r) })
 	}
 }
 
@@ -294,17 +251,6 @@ func TestAnswersAreTheCallers(t *testing.T) {
 	}
 }
 
-// lineEnds is all ends of line that are read in a dialect.
-func lineEnds(d api.Dialect) []string {
-	switch d.End {
-	case api.LF:
-		return []string{"\n"}
-	case api.CRLF:
-		return []string{"\r\n"}
-	}
-	return []string{"\n", "\r\n"}
-}
-
 // isRead tells whether a record whose fields stand as they are is read as these, at a text's beginning or behind another record.
 func isRead(d api.Dialect, r []string, first bool, end string) bool {
 	text, want := strings.Join(r, string([]byte{d.Delim}))+end, [][]string{r}
@@ -321,7 +267,7 @@ func checkRead(t *testing.T, d api.Dialect, r []string) {
 	t.Helper()
 	for _, first := range bools {
 		free := !slices.Contains(Fields(d, r, first), true)
-		for _, end := range lineEnds(d) {
+		for _, end := range samples.LineEnds(d) {
 			if read := isRead(d, r, first, end); read != free {
 				t.Fatalf("%v, %q, first %v, %q: read as it stands: %v; none must be quoted: %v", d, r, first, end, read, free)
 			}
@@ -331,7 +277,7 @@ func checkRead(t *testing.T, d api.Dialect, r []string) {
 
 // P8.2: short fields that are UTF-8, alone and beside others.
 func TestReadAsItStands(t *testing.T) {
-	for _, d := range someDialects() {
+	for _, d := range samples.Dialects() {
 		var short []string
 		eachField(d, 4, func(f string) {
 			if utf8.ValidString(f) {
@@ -349,10 +295,10 @@ func TestReadAsItStands(t *testing.T) {
 
 // P8.2: short records of fields that look like something.
 func TestRecordsReadAsTheyStand(t *testing.T) {
-	for _, d := range someDialects() {
+	for _, d := range samples.Dialects() {
 		delim, quote := string([]byte{d.Delim}), string([]byte{d.Quote})
 		fields := []string{"", "x", "é", " ", ",", "\"", "\ufeff", "x\ufeff", delim + "x", quote + "x" + quote, "x\r", "\r\n"}
-		eachList(fields, 3, func(r []string) {
+		samples.EachList(fields, 3, func(r []string) {
 			if len(r) > 0 {
 				checkRead(t, d, r)
 			}
@@ -362,7 +308,7 @@ func TestRecordsReadAsTheyStand(t *testing.T) {
 
 // P8.2: each byte that is a character, in dialects of each Delim, and of Quotes enough, the usual one among them; but where the 1 isn't plain.
 func TestEachByteReadAsItStands(t *testing.T) {
-	eachRight(func(d api.Dialect) {
+	samples.EachDialect(func(d api.Dialect) {
 		if d.Delim == '1' || d.Quote == '1' || d.Quote%8 != 2 {
 			return
 		}
@@ -398,7 +344,7 @@ func FuzzFields(f *testing.F) {
 	f.Add(byte(0), byte(127), 3, "\r\n", "\xff")
 	f.Fuzz(func(t *testing.T, delim, quote byte, end int, one, other string) {
 		d := api.Dialect{Delim: delim, Quote: quote, End: end}
-		right := max(delim, quote) < 128 && delim != quote && !strings.ContainsAny(string([]byte{delim, quote}), "\r\n1") && slices.Contains(ends, end)
+		right := max(delim, quote) < 128 && delim != quote && !strings.ContainsAny(string([]byte{delim, quote}), "\r\n1") && slices.Contains(samples.Ends(), end)
 		if !right {
 			return
 		}
